@@ -1,0 +1,1 @@
+"""Pairlattice: all pairings that no two would break."""
