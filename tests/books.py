@@ -10,6 +10,12 @@ BLOCKS = (
     (((1,), (0,)), ((0,), (1,)), ((3,), (2,)), ((2,), (3,))),
 )
 
+# Its good pairings: nothing turned, one block of the two, or both.
+BEST, LEFT, RIGHT, WORST = (0, 1, 2, 3), (1, 0, 2, 3), (0, 1, 3, 2), (1, 0, 3, 2)
+
+# A pairing of BLOCKS that isn't good: 0 and 1 of the ones are alone.
+BROKEN = (-1, -1, 2, 3)
+
 # More of the ones than of the others, ties, and wishes that are not returned:
 # 0 and 1 of the ones both want 1 of the others, 2 is not wished by anybody.
 UNLIKE = (
@@ -78,6 +84,52 @@ BAD_BOOKS = {
     "a group that falls at its end": ((((0, 2, 1),),), (ROW, ROW, ROW)),
     "a group of the others that falls": ((ROW, ROW), (((1, 0),),)),
 }
+
+# None of these is a pairing of BLOCKS.
+BAD_PAIRINGS = {
+    "a list": [0, 1, 2, 3],
+    "None": None,
+    "True": True,
+    "a number": 0,
+    "a text": "0123",
+    "bytes": b"\0\1\2\3",
+    "a dict": {0: 0, 1: 1, 2: 2, 3: 3},
+    "nothing": (),
+    "one fewer": (0, 1, 2),
+    "one more": (0, 1, 2, 3, -1),
+    "below -1": (0, 1, 2, -2),
+    "far below -1": (-4, 1, 2, 3),
+    "just beyond the others": (0, 1, 2, 4),
+    "far beyond the others": (99, 1, 2, 3),
+    "True in it": (0, True, 2, 3),
+    "False in it": (False, 1, 2, 3),
+    "None in it": (0, 1, 2, None),
+    "a text in it": ("0", 1, 2, 3),
+    "a part of a number in it": (0.0, 1, 2, 3),
+    "less than all in it": (-1.0, 1, 2, 3),
+    "a tuple in it": ((0,), 1, 2, 3),
+    "a list in it": ([0], 1, 2, 3),
+    "one of the others twice": (0, 0, 2, 3),
+    "one of the others twice, the rest alone": (-1, -1, 3, 3),
+    "two who may not be paired": (2, 1, -1, 3),
+}
+
+
+def cyclic(many):
+    """A book in which the ones are best served just where the others are worst."""
+    ones = tuple(tuple(((i + k) % many,) for k in range(many)) for i in range(many))
+    others = tuple(tuple(((j + k) % many,) for k in range(1, many + 1)) for j in range(many))
+    return ones, others
+
+
+def blocks(many):
+    """So many blocks of two as in BLOCKS: each may be turned without the others."""
+    ones, others = [], []
+    for low in range(0, 2 * many, 2):
+        up, down = ((low,), (low + 1,)), ((low + 1,), (low,))
+        ones += [up, down]
+        others += [down, up]
+    return tuple(ones), tuple(others)
 
 
 def made_row(chance, many, named):

@@ -6,7 +6,7 @@ import pathlib
 import unittest
 
 import pairlattice
-from pairlattice import errors, pairings, wishes
+from pairlattice import asking, errors, lattice, pairings, turnings, wishes
 
 FOLDER = pathlib.Path(pairlattice.__file__).parent
 ALLOWED = ("pairlattice", "heapq", "math", "itertools", "collections")
@@ -19,9 +19,22 @@ FUNCTIONS = {
         "is_good": ["book", "pairing"],
         "better": ["book", "side", "one", "other"],
     },
+    asking: {"asks": ["book", "side"], "best_for": ["book", "side"]},
+    turnings: {"turnings": ["book", "pairing"], "turned": ["book", "pairing", "turning"]},
 }
 CLASSES = {
     errors: ["PairError", "BadBook", "BadPairing", "NotGood", "NoTurning", "NotClosed", "BadText"],
+    lattice: ["Lattice"],
+}
+METHODS = {
+    lattice.Lattice: {
+        "__init__": ["self", "book"],
+        "turnings": ["self"],
+        "ahead": ["self", "number"],
+        "pairings": ["self"],
+        "part": ["self", "pairing"],
+        "pairing": ["self", "part"],
+    },
 }
 
 
@@ -47,6 +60,14 @@ class Interface(unittest.TestCase):
                     self.assertIsInstance(found, type)
                     self.assertEqual(found.__module__, module.__name__)
 
+    def test_methods(self):
+        for owner, listed in METHODS.items():
+            for name, parameters in listed.items():
+                with self.subTest(name, owner=owner.__name__):
+                    # In the class itself, not in a base class.
+                    self.assertIn(name, vars(owner))
+                    self.assertEqual(list(inspect.signature(vars(owner)[name]).parameters), parameters)
+
 
 class Readme(unittest.TestCase):
     def test_what_it_shows_is_so(self):
@@ -56,7 +77,7 @@ class Readme(unittest.TestCase):
         head, rows = code.split("\n)\n")
         exec(head + "\n)\n", known)
         shown = [row.split("#") for row in rows.split("\n") if "#" in row]
-        self.assertEqual(len(shown), 6)
+        self.assertEqual(len(shown), 15)
         for asked, told in shown:
             with self.subTest(asked):
                 self.assertEqual(eval(asked, known), eval(told))

@@ -3,10 +3,13 @@
 import copy
 import unittest
 
+from pairlattice.asking import asks, best_for
 from pairlattice.errors import (
     BadBook, BadPairing, BadText, NotClosed, NotGood, NoTurning, PairError,
 )
+from pairlattice.lattice import Lattice
 from pairlattice.pairings import better, breakers, is_good
+from pairlattice.turnings import turned, turnings
 from pairlattice.wishes import order
 from tests.books import BAD_BOOKS, BLOCKS, ONE, ROW, UNLIKE, made_books, slow_order
 
@@ -23,6 +26,15 @@ ASKED = {
     "is_good of no pairing": lambda book: is_good(book, [0]),
     "better": lambda book: better(book, 0, (-1,), (-1,)),
     "better of no pairings": lambda book: better(book, 1, [0], "x"),
+    "asks of the ones": lambda book: asks(book, 0),
+    "asks of the others": lambda book: asks(book, 1),
+    "best_for the ones": lambda book: best_for(book, 0),
+    "best_for the others": lambda book: best_for(book, 1),
+    "turnings": lambda book: turnings(book, (-1,)),
+    "turnings at no pairing": lambda book: turnings(book, None),
+    "turned": lambda book: turned(book, (-1,), ()),
+    "turned, no pairing and no turning": lambda book: turned(book, [0], None),
+    "Lattice": lambda book: Lattice(book),
 }
 
 
