@@ -1,6 +1,6 @@
 """Asking by a side, and the good pairing behind all asks."""
 
-from pairlattice.pairings import ALONE, rather, seen_across
+from pairlattice.pairings import ALONE, pairing_by, rather
 from pairlattice.wishes import check_book, orders
 
 
@@ -13,9 +13,7 @@ def asks(book, side):
 def best_for(book, side):
     """Tell the good pairing that is the best of all for each of a side."""
     _, holders = asked_by(book, side)
-    if side == 1:
-        return tuple(holders)
-    return tuple(seen_across(holders, len(book[0])))
+    return pairing_by(book, 1 - side, holders)
 
 
 def asked_by(book, side):

@@ -29,11 +29,8 @@ def better(book, side, one, other):
     """Tell the good pairing in which each of a side has the preferred of its two."""
     check_good(book, one)
     check_good(book, other)
-    if side == 0:
-        return tuple(preferred(orders(book, 0), one, other))
-    many = len(book[1])
-    held = preferred(orders(book, 1), seen_across(one, many), seen_across(other, many))
-    return tuple(seen_across(held, len(book[0])))
+    held = preferred(orders(book, side), held_by(book, side, one), held_by(book, side, other))
+    return pairing_by(book, side, held)
 
 
 def preferred(wished, firsts, seconds):
@@ -58,6 +55,16 @@ def seen_across(held, many):
         if partner != ALONE:
             holders[partner] = number
     return holders
+
+
+def held_by(book, side, pairing):
+    """Tell what each of a side has in a pairing."""
+    return list(pairing) if side == 0 else seen_across(pairing, len(book[1]))
+
+
+def pairing_by(book, side, held):
+    """Tell the pairing in which each of a side has what is told for it."""
+    return tuple(held) if side == 0 else tuple(seen_across(held, len(book[0])))
 
 
 def check_good(book, pairing):

@@ -8,6 +8,9 @@ MOST_ROWS = 8
 def order(book, side, number):
     """Tell with whom one of a side may be paired, the most wished first."""
     check_book(book)
+    if not 0 <= number < len(book[side]):
+        # Nobody has this number, so nobody may be paired with it.
+        return []
     return order_of(book, side, number)
 
 

@@ -6,7 +6,7 @@ import pathlib
 import unittest
 
 import pairlattice
-from pairlattice import asking, errors, lattice, pairings, turnings, wishes
+from pairlattice import asking, chosen, errors, lattice, mending, pairings, texts, turnings, wishes
 
 FOLDER = pathlib.Path(pairlattice.__file__).parent
 ALLOWED = ("pairlattice", "heapq", "math", "itertools", "collections")
@@ -21,6 +21,14 @@ FUNCTIONS = {
     },
     asking: {"asks": ["book", "side"], "best_for": ["book", "side"]},
     turnings: {"turnings": ["book", "pairing"], "turned": ["book", "pairing", "turning"]},
+    chosen: {
+        "sorts": ["book"],
+        "with_pair": ["book", "i", "j"],
+        "fairest": ["book"],
+        "gentlest": ["book"],
+    },
+    mending: {"mended": ["book", "pairing", "side", "number", "row"]},
+    texts: {"written": ["book"], "read": ["text"]},
 }
 CLASSES = {
     errors: ["PairError", "BadBook", "BadPairing", "NotGood", "NoTurning", "NotClosed", "BadText"],
@@ -77,7 +85,7 @@ class Readme(unittest.TestCase):
         head, rows = code.split("\n)\n")
         exec(head + "\n)\n", known)
         shown = [row.split("#") for row in rows.split("\n") if "#" in row]
-        self.assertEqual(len(shown), 15)
+        self.assertEqual(len(shown), 22)
         for asked, told in shown:
             with self.subTest(asked):
                 self.assertEqual(eval(asked, known), eval(told))

@@ -1,7 +1,6 @@
 """Promises [8] and [9]: all turnings, parts and closed lists; [1], [2], [4] where they hold of them."""
 
 import copy
-import functools
 import itertools
 import random
 import unittest
@@ -16,7 +15,7 @@ from tests.books import (
     cyclic, made_books, slow_breakers,
 )
 from tests.refusing import Refusing
-from tests.walks import doubled, opposed_book, ways, with_good_ones
+from tests.walks import doubled, good_of_eight, opposed_book, ways, with_good_ones
 
 FIRST, SECOND = ((0, 0), (1, 1)), ((2, 2), (3, 3))
 
@@ -53,23 +52,6 @@ NOT_CLOSED = {
 def of_numbers(told):
     """If something is a list of whole numbers."""
     return type(told) is list and all(type(number) is int for number in told)
-
-
-@functools.cache
-def good_of_eight():
-    """All good pairings of doubled(3), in which everybody wishes everybody: nobody is alone."""
-    ones, others = ([[group[0] for group in row] for row in rows] for rows in doubled(3))
-    place = [[row.index(j) for j in range(8)] for row in ones]
-    back = [[row.index(i) for i in range(8)] for row in others]
-    pairs = list(itertools.permutations(range(8), 2))
-
-    def broken(told):
-        return any(
-            place[i][told[k]] < place[i][told[i]] and back[told[k]][i] < back[told[k]][k]
-            for i, k in pairs
-        )
-
-    return [told for told in itertools.permutations(range(8)) if not broken(told)]
 
 
 class Turnings(unittest.TestCase):

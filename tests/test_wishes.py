@@ -4,11 +4,14 @@ import copy
 import unittest
 
 from pairlattice.asking import asks, best_for
+from pairlattice.chosen import fairest, gentlest, sorts, with_pair
 from pairlattice.errors import (
     BadBook, BadPairing, BadText, NotClosed, NotGood, NoTurning, PairError,
 )
 from pairlattice.lattice import Lattice
+from pairlattice.mending import mended
 from pairlattice.pairings import better, breakers, is_good
+from pairlattice.texts import written
 from pairlattice.turnings import turned, turnings
 from pairlattice.wishes import order
 from tests.books import BAD_BOOKS, BLOCKS, ONE, ROW, UNLIKE, made_books, slow_order
@@ -35,6 +38,16 @@ ASKED = {
     "turned": lambda book: turned(book, (-1,), ()),
     "turned, no pairing and no turning": lambda book: turned(book, [0], None),
     "Lattice": lambda book: Lattice(book),
+    "sorts": lambda book: sorts(book),
+    "with_pair": lambda book: with_pair(book, 0, 0),
+    "with_pair of nobody": lambda book: with_pair(book, -1, 99),
+    "fairest": lambda book: fairest(book),
+    "gentlest": lambda book: gentlest(book),
+    "mended": lambda book: mended(book, (-1,), 0, 0, ()),
+    "mended for one of the others": lambda book: mended(book, (-1,), 1, 0, ()),
+    "mended, no pairing and no row": lambda book: mended(book, [0], 1, 0, None),
+    "mended for nobody": lambda book: mended(book, (-1,), 0, 99, ()),
+    "written": lambda book: written(book),
 }
 
 
@@ -64,6 +77,11 @@ class Orders(unittest.TestCase):
     def test_left_out_by_the_ones(self):
         book = ((((1,),), ((0,),)), (((0, 1),), ((0, 1),)))
         self.assertEqual([order(book, 1, j) for j in range(2)], [[1], [0]])
+
+    def test_of_a_number_of_nobody_nothing_is_told(self):
+        for side in (0, 1):
+            for number in (-1, -4, 4, 8, 99):
+                self.assertEqual(order(BLOCKS, side, number), [])
 
     def test_smallest(self):
         self.assertEqual(order((ONE, ONE), 0, 0), [0])

@@ -1,5 +1,6 @@
 """More books for the tests, and slow answers about asks and turnings from the document's words."""
 
+import functools
 import itertools
 import random
 
@@ -96,9 +97,27 @@ def small_books():
     ]
 
 
+@functools.cache
 def with_good_ones():
     """Small books, each with all its good pairings walked one by one."""
     return [(book, good_pairings(book)) for book in small_books()]
+
+
+@functools.cache
+def good_of_eight():
+    """All good pairings of doubled(3), in which everybody wishes everybody: nobody is alone."""
+    ones, others = ([[group[0] for group in row] for row in rows] for rows in doubled(3))
+    place = [[row.index(j) for j in range(8)] for row in ones]
+    back = [[row.index(i) for i in range(8)] for row in others]
+    pairs = list(itertools.permutations(range(8), 2))
+
+    def broken(told):
+        return any(
+            place[i][told[k]] < place[i][told[i]] and back[told[k]][i] < back[told[k]][k]
+            for i, k in pairs
+        )
+
+    return [told for told in itertools.permutations(range(8)) if not broken(told)]
 
 
 def slow_asks(book, side):
